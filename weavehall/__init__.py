@@ -1,0 +1,1 @@
+"""Weavehall: cloths, the looms that make them, and whether they hang together."""
