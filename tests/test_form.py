@@ -36,6 +36,15 @@ NOT_USED = set(
 WALKED_AT_ONCE = {"zip", "enumerate", "reversed", "range"}
 WALKERS = {"list", "tuple", "dict", "sorted", "sum", "any", "all", "enumerate", "zip", "min", "max"}
 SET_WALKERS = {"sorted", "len"}
+VIEWS = {"items", "keys", "values"}
+CHANGES = {"append", "clear", "extend", "insert", "pop", "remove", "reverse", "setdefault", "update"}
+KEYWORDS = {
+    "sorted": {"key", "reverse"}, "min": {"key", "default"}, "max": {"key", "default"}, "sum": {"start"},
+    "enumerate": {"start"}, "zip": {"strict"},
+}
+AS_KEY = {"len", "int", "str", "abs", "sum", "min", "max", "tuple"}
+KINDS = {"int", "str", "bool", "list", "tuple", "dict"}
+TAKEN_FREELY = {"KeyError", "ZeroDivisionError", "StopIteration"}
 
 
 def called_name(node):
@@ -56,6 +65,27 @@ def is_walked(node):
     if isinstance(parent, (ast.For, ast.comprehension)):
         return parent.iter is node
     return called_name(parent) in WALKERS
+
+
+def names_within(node):
+    return {part.id for part in ast.walk(node) if isinstance(part, ast.Name)}
+
+
+def changed_names(statements):
+    """Names whose values are changed in place: by a method that changes, or by giving to an index."""
+    found = set()
+    for node in [part for statement in statements for part in ast.walk(statement)]:
+        if isinstance(node, ast.Call) and isinstance(node.func, ast.Attribute) and node.func.attr in CHANGES:
+            found |= names_within(node.func.value)
+        if isinstance(node, ast.Subscript) and isinstance(node.ctx, ast.Store):
+            found |= names_within(node.value)
+    return found
+
+
+def is_plain(node):
+    if isinstance(node, ast.Tuple):
+        return all(is_plain(part) for part in node.elts)
+    return isinstance(node, ast.Constant)
 
 
 def bound_names(tree):
@@ -189,6 +219,74 @@ class FormTest(unittest.TestCase):
             if called_name(node) in ("set", "frozenset"):
                 beside = isinstance(node.parent, (ast.Compare, ast.BinOp))
                 self.assertTrue(beside or called_name(node.parent) in SET_WALKERS, place)
+            if isinstance(node.func, ast.Attribute) and node.func.attr in VIEWS:
+                self.assertTrue(is_walked(node), place)
+
+    def test_what_a_loop_walks_is_not_changed_in_it(self):
+        for place, node in self.nodes(ast.For):
+            self.assertEqual(names_within(node.iter) & changed_names(node.body), set(), place)
+
+    def test_a_statement_by_itself_is_a_call(self):
+        for place, node in self.nodes(ast.Expr):
+            is_docstring = isinstance(node.parent, ast.Module) and node.parent.body[0] is node
+            self.assertTrue(is_docstring or isinstance(node.value, ast.Call), place)
+
+    def test_names_at_the_top_hold_plain_values(self):
+        for name, tree in self.trees.items():
+            for node in tree.body:
+                if isinstance(node, ast.Assign):
+                    self.assertTrue(is_plain(node.value), f"{name}:{node.lineno}")
+
+    def test_names_of_functions_and_classes(self):
+        for place, node in self.nodes(ast.FunctionDef, ast.ClassDef):
+            self.assertRegex(node.name, r"^([A-Za-z][A-Za-z0-9_]*|__(init|eq|repr|str|len)__)$", place)
+            self.assertNotIn(node.name, dir(builtins), place)
+            if isinstance(node, ast.ClassDef):
+                self.assertIsInstance(node.parent, ast.Module, place)
+
+    def test_no_annotations(self):
+        for place, node in self.nodes(ast.arg):
+            self.assertIsNone(node.annotation, place)
+        for place, node in self.nodes(ast.FunctionDef):
+            self.assertIsNone(node.returns, place)
+
+    def test_errors_are_made_on_the_spot_and_taken_by_name(self):
+        own = {node.name for place, node in self.nodes(ast.ClassDef)}
+        for place, node in self.nodes(ast.Raise):
+            self.assertIn(called_name(node.exc), own, place)
+        for place, node in self.nodes(ast.Try):
+            self.assertEqual(node.finalbody, [], place)
+        for place, node in self.nodes(ast.ExceptHandler):
+            self.assertIsNotNone(node.type, place)
+            self.assertLessEqual(names_within(node.type), own | TAKEN_FREELY, place)
+
+    def test_classes_are_not_handed_on(self):
+        own = {node.name for place, node in self.nodes(ast.ClassDef)}
+        for place, node in self.nodes(ast.Name):
+            if node.id in own:
+                is_called = isinstance(node.parent, ast.Call) and node.parent.func is node
+                self.assertTrue(is_called or isinstance(node.parent, (ast.ClassDef, ast.ExceptHandler)), place)
+
+    def test_pythons_own_are_called_as_told(self):
+        for place, node in self.nodes(ast.Call):
+            for keyword in node.keywords:
+                self.assertIn(keyword.arg, KEYWORDS.get(called_name(node), set()), place)
+            if called_name(node) == "isinstance":
+                self.assertLessEqual(names_within(node.args[1]), KINDS, place)
+        for place, node in self.nodes(ast.Name):
+            if node.id in PYTHON_NAMES and not (isinstance(node.parent, ast.Call) and node.parent.func is node):
+                is_key = isinstance(node.parent, ast.keyword) and node.parent.arg == "key" and node.id in AS_KEY
+                is_kind = node.id in KINDS and "isinstance" in (called_name(node.parent), called_name(node.parent.parent))
+                is_base = isinstance(node.parent, (ast.ClassDef, ast.ExceptHandler))
+                self.assertTrue(is_key or is_kind or is_base, place)
+
+    def test_texts(self):
+        for name, text in self.texts.items():
+            self.assertNotRegex(text, r"\\[^nt\\'\"]", name)
+        for place, node in self.nodes(ast.FormattedValue):
+            self.assertIsInstance(node.value, ast.Name, place)
+            self.assertIn(node.conversion, (-1, ord("r")), place)
+            self.assertIsNone(node.format_spec, place)
 
 
 if __name__ == "__main__":

@@ -45,3 +45,24 @@ def all_cloths(most_rows, most_columns):
             rows = list(product((0, 1), repeat=width))
             found.extend(product(rows, repeat=height))
     return found
+
+
+def patterned(seed, height, width, bound):
+    """Rows of numbers below the bound that look mixed, the same ones on every run."""
+    state = seed * 7919 + height * 104729 + width * 1299709 + 1
+    rows = []
+    for _ in range(height):
+        row = []
+        for _ in range(width):
+            state = (state * 6364136223846793005 + 1442695040888963407) % 2 ** 64
+            row.append((state >> 33) % bound)
+        rows.append(tuple(row))
+    return tuple(rows)
+
+
+def patterned_cloth(seed, height, width):
+    return patterned(seed, height, width, 2)
+
+
+def patterned_picture(seed, height, width):
+    return patterned(seed, height, width, 3)

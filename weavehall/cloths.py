@@ -1,6 +1,6 @@
 """Cloths: tuples of rows of bits, a 1 where the warp lies above the weft."""
 
-from weavehall.errors import BadCloth
+from weavehall.errors import BadCloth, NoThread
 from weavehall.kinds import is_number_below, is_row_of_numbers_below, is_tuple_in_bounds
 
 
@@ -33,6 +33,13 @@ def is_thread(cloth, thing):
     if thing[0] == "warp":
         return is_number_below(thing[1], len(cloth[0]))
     return thing[0] == "weft" and is_number_below(thing[1], len(cloth))
+
+
+def checked_thread(cloth, thing):
+    # The words leave the thing out here too.
+    if not is_thread(cloth, thing):
+        raise NoThread("this is no thread of the cloth")
+    return thing
 
 
 def above(cloth, one, other):

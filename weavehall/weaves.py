@@ -1,13 +1,10 @@
 """Weaves: the floats of threads and cloths, twills, satins, and whether a cloth is even."""
 
-from weavehall.cloths import column, columns, is_thread, threads
-from weavehall.errors import NoThread
+from weavehall.cloths import checked_thread, column, columns, threads
 
 
 def float_of(cloth, thread):
-    # The error's words leave the thing itself out: showing a thing of any kind may fail.
-    if not is_thread(cloth, thread):
-        raise NoThread("this is no thread of the cloth")
+    checked_thread(cloth, thread)
     return longest_run(crossings(cloth, thread))
 
 
